@@ -4,11 +4,10 @@ package murmur
 import (
 	"murmur/api"
 	"murmur/block"
+	"murmur/cut"
 	"murmur/field"
+	"murmur/wire"
 )
-
-// Sender tells objects.
-type Sender struct{}
 
 // Receiver takes objects.
 type Receiver struct{}
@@ -41,19 +40,12 @@ func Restore(k int, places []int, symbols [][]byte) ([][]byte, error) {
 }
 
 // Parse reads a packet (P4).
-func Parse(c api.Config, packet []byte) (api.Packet, error) { return api.Packet{}, nil }
-
-// NewSender makes a sender (P5).
-func NewSender(c api.Config) (*Sender, error) { return nil, nil }
-
-// Enqueue takes an object in (P5).
-func (s *Sender) Enqueue(object []byte) (int, error) { return 0, nil }
-
-// Next tells a packet (P5).
-func (s *Sender) Next() ([]byte, bool) { return nil, false }
-
-// Hear hears a packet (P6).
-func (s *Sender) Hear(packet []byte) error { return nil }
+func Parse(c api.Config, packet []byte) (api.Packet, error) {
+	if !cut.IsConfig(c) {
+		return api.Packet{}, api.ErrConfig
+	}
+	return wire.Parse(c, packet)
+}
 
 // NewReceiver makes a receiver (P7).
 func NewReceiver(c api.Config) (*Receiver, error) { return nil, nil }

@@ -13,6 +13,15 @@ func Symbol(places []byte, symbols [][]byte, place byte) []byte {
 	return sum
 }
 
+// Source is all source symbols of the block that has symbols at places: it has as many of them as are told of it.
+func Source(places []byte, symbols [][]byte) [][]byte {
+	source := make([][]byte, len(symbols))
+	for place := range source {
+		source[place] = Symbol(places, symbols, byte(place))
+	}
+	return source
+}
+
 // weight is what the polynomial that is 1 at places[i], and 0 at the other places, has at place (after Lagrange).
 func weight(places []byte, i int, place byte) byte {
 	over, under := byte(1), byte(1)

@@ -23,6 +23,13 @@ func TestSymbolOfALine(t *testing.T) {
 	}
 }
 
+func TestSourceOfALine(t *testing.T) {
+	got := Source([]byte{3, 2}, [][]byte{{3, 9}, {1, 9}})
+	if len(got) != 2 || !bytes.Equal(got[0], []byte{5, 9}) || !bytes.Equal(got[1], []byte{7, 9}) {
+		t.Errorf("%v", got)
+	}
+}
+
 func TestWeightIsOneAtItsPlaceAndNoneAtOthers(t *testing.T) {
 	places := []byte{255, 0, 17, 2, 9, 128, 1, 254}
 	for i := range places {

@@ -9,9 +9,6 @@ import (
 	"murmur/wire"
 )
 
-// Receiver takes objects.
-type Receiver struct{}
-
 // Mul is the product in the field (P3).
 func Mul(a byte, b byte) byte { return field.Mul(a, b) }
 
@@ -31,12 +28,7 @@ func Restore(k int, places []int, symbols [][]byte) ([][]byte, error) {
 	if !arePlaces(places) || !ofOneLength(symbols) {
 		return nil, api.ErrArg
 	}
-	known := toBytes(places)
-	source := make([][]byte, k)
-	for i, place := range sourcePlaces(k) {
-		source[i] = block.Symbol(known, symbols, place)
-	}
-	return source, nil
+	return block.Source(toBytes(places), symbols), nil
 }
 
 // Parse reads a packet (P4).
@@ -46,18 +38,3 @@ func Parse(c api.Config, packet []byte) (api.Packet, error) {
 	}
 	return wire.Parse(c, packet)
 }
-
-// NewReceiver makes a receiver (P7).
-func NewReceiver(c api.Config) (*Receiver, error) { return nil, nil }
-
-// Hear hears a packet (P7).
-func (r *Receiver) Hear(packet []byte) error { return nil }
-
-// Ask asks for what is lacking (P8).
-func (r *Receiver) Ask() ([]byte, error) { return nil, nil }
-
-// Taken tells objects that were taken (P8).
-func (r *Receiver) Taken() ([]api.Object, error) { return nil, nil }
-
-// Close closes the receiver (P8).
-func (r *Receiver) Close() error { return nil }

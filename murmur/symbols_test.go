@@ -193,6 +193,27 @@ func TestRestoreFromAnySymbols(t *testing.T) {
 	}
 }
 
+// TestAnySymbolsOfABlockGiveItBack takes the last block of an object, too: its repair symbols begin at K, not at its k.
+func TestAnySymbolsOfABlockGiveItBack(t *testing.T) {
+	for most := 1; most <= api.MaxK; most++ {
+		c := api.Config{K: most, N: api.MaxN, S: 3}
+		for k := 1; k <= most; k++ {
+			source := cutUp(c, bytesOf(k*c.S))[0]
+			round := roundOf(c, k)
+			eachChoice(k, len(round), func(turns []int) {
+				places, symbols := make([]int, k), make([][]byte, k)
+				for i, turn := range turns {
+					places[i] = round[turn]
+					symbols[i], _ = murmur.Symbol(source, places[i])
+				}
+				if got, e := murmur.Restore(k, places, symbols); e != nil || !sameLists(got, source) {
+					t.Fatalf("P9: K %d, k %d from %v: %v, %v, want %v", most, k, places, got, e, source)
+				}
+			})
+		}
+	}
+}
+
 func TestRestoreFromPlacesOfAllOrders(t *testing.T) {
 	for _, places := range [][]int{
 		{0}, {255}, {1, 0}, {255, 0}, {0, 255}, {255, 254, 253}, {7, 6, 5, 4, 3, 2, 1, 0},

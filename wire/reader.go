@@ -1,6 +1,10 @@
 package wire
 
-import "murmur/api"
+import (
+	"errors"
+
+	"murmur/api"
+)
 
 // reader goes through bytes from the front on.
 type reader struct {
@@ -37,7 +41,8 @@ func (r *reader) number(size int, wrong error, may func(int) bool) (int, error) 
 
 // end tells what is wrong if there are more bytes.
 func (r *reader) end() error {
-	if r.at < len(r.bytes) {
+	ahead := *r // it only looks ahead: the reader stays where it is
+	if _, err := ahead.next(1); !errors.Is(err, api.ErrShort) {
 		return Wrong(api.ErrLong, r.at)
 	}
 	return nil

@@ -114,6 +114,19 @@ func behind(ahead int, err error) error {
 
 // DataBytes is a DATA packet as bytes.
 func DataBytes(p api.Packet) []byte {
-	head := []byte{api.Data, byte(p.Object), byte(p.Length >> 8), byte(p.Length), byte(p.Block), byte(p.Place)}
-	return append(head, p.Data...)
+	b := append(headBytes(api.Data, p), byte(p.Block), byte(p.Place))
+	return append(b, p.Data...)
+}
+
+// AskBytes is an ASK packet as bytes.
+func AskBytes(p api.Packet) []byte {
+	b := append(headBytes(api.Ask, p), byte(len(p.Asks)))
+	for _, lack := range p.Asks {
+		b = append(b, byte(lack.Block), byte(lack.Many))
+	}
+	return b
+}
+
+func headBytes(kind byte, p api.Packet) []byte {
+	return []byte{kind, byte(p.Object), byte(p.Length >> 8), byte(p.Length)}
 }

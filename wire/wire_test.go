@@ -26,6 +26,22 @@ func TestDataBytesAreReadBack(t *testing.T) {
 	}
 }
 
+func TestAskBytesAreReadBack(t *testing.T) {
+	c := api.Config{K: 2, N: 4, S: 3}
+	for _, p := range []api.Packet{
+		{Kind: api.Ask, Asks: []api.Lack{{Block: 0, Many: 1}}},
+		{Kind: api.Ask, Object: 15, Length: 255, Asks: []api.Lack{{Block: 0, Many: 2}, {Block: 7, Many: 1}, {Block: 42, Many: 1}}},
+	} {
+		b := AskBytes(p)
+		if got, e := Parse(c, b); e != nil || !reflect.DeepEqual(got, p) {
+			t.Errorf("%v: %+v, %v, want %+v", b, got, e, p)
+		}
+	}
+	if b := AskBytes(api.Packet{Object: 1, Length: 0x203, Asks: []api.Lack{{Block: 4, Many: 5}}}); !bytes.Equal(b, []byte{2, 1, 2, 3, 1, 4, 5}) {
+		t.Errorf("%v", b)
+	}
+}
+
 func TestReader(t *testing.T) {
 	r := &reader{bytes: []byte{1, 2, 3, 4, 5}}
 	all := func(int) bool { return true }
